@@ -1,0 +1,434 @@
+package code_test
+
+import (
+	"bytes"
+	"encoding/binary"
+	"math"
+	"math/rand"
+	"slices"
+	"strings"
+	"testing"
+
+	"rialto/api"
+	"rialto/code"
+	"rialto/value"
+)
+
+// Floats by their bits: == tells nothing of most of them.
+var (
+	minusNought = math.Copysign(0, -1)
+	firstNaN    = math.Float64frombits(0xFFFFFFFFFFFFFFFF)
+	minusNaN    = math.Float64frombits(0xFFF8000000000000)
+	signalNaN   = math.Float64frombits(0x7FF0000000000001)
+	quietNaN    = math.Float64frombits(0x7FF8000000000000)
+	lastNaN     = math.Float64frombits(0x7FFFFFFFFFFFFFFF)
+)
+
+func ofInt(n int64) api.Value     { return api.Value{Kind: api.Int, Int: n} }
+func ofBool(n int64) api.Value    { return api.Value{Kind: api.Bool, Int: n} }
+func ofStr(s string) api.Value    { return api.Value{Kind: api.Str, Str: s} }
+func ofBytes(s string) api.Value  { return api.Value{Kind: api.Bytes, Str: s} }
+func ofFloat(f float64) api.Value { return api.Value{Kind: api.Float, F: f} }
+
+// risingStrings stand byte by byte, a shorter one ahead of one that begins like it.
+func risingStrings() []string {
+	return []string{
+		"", "\x00", "\x00\x00", "\x00\x00\x01", "\x00\x01", "\x00\xFF", "\x00\xFF\x00",
+		"\x01\x00", strings.Repeat("\x01", 60), "\x02",
+		"a", "a\x00", "a\x00\x00", "a\x00\x01", "a\x00b", "a\x00\xFF", "a\x01", "a\x01\x00", "aa", "ab", "a\xFE", "a\xFF", "a\xFF\x00", "a\xFF\xFF",
+		"b", strings.Repeat("x", 59), strings.Repeat("x", 60), "\u00E9", "\xFE", "\xFF", "\xFF\x00", "\xFF\x00\xFF", "\xFF\x01", "\xFF\xFF",
+	}
+}
+
+// rising tells values of all kinds in the order that Compare asks for.
+func rising() []api.Value {
+	var l []api.Value
+	for _, n := range []int64{math.MinInt64, math.MinInt64 + 1, -1 << 32, -257, -256, -1, 0, 1, 255, 256, 1 << 32, math.MaxInt64 - 1, math.MaxInt64} {
+		l = append(l, ofInt(n))
+	}
+	l = append(l, ofBool(0), ofBool(1))
+	for _, s := range risingStrings() {
+		l = append(l, ofStr(s))
+	}
+	for _, s := range risingStrings() {
+		l = append(l, ofBytes(s))
+	}
+	for _, f := range []float64{
+		firstNaN, minusNaN, math.Inf(-1), -math.MaxFloat64, -1, -math.SmallestNonzeroFloat64, minusNought,
+		0, math.SmallestNonzeroFloat64, 1, 1.5, math.MaxFloat64, math.Inf(1), signalNaN, quietNaN, lastNaN,
+	} {
+		l = append(l, ofFloat(f))
+	}
+	return l
+}
+
+// noValues are what no bytes stand for.
+func noValues() []api.Value {
+	return []api.Value{
+		{},
+		{Kind: -1},
+		{Kind: api.Float + 1},
+		{Kind: 256 + api.Int},
+		{Kind: math.MinInt},
+		{Kind: api.Int, Str: "a"},
+		{Kind: api.Int, F: minusNought},
+		ofBool(-1),
+		ofBool(2),
+		ofBool(257),
+		{Kind: api.Bool, Str: "a"},
+		{Kind: api.Str, Int: 1},
+		{Kind: api.Str, F: quietNaN},
+		ofStr(strings.Repeat("x", 61)),
+		ofBytes(strings.Repeat("\x00", 61)),
+		{Kind: api.Bytes, Int: -1},
+		{Kind: api.Float, Int: 1},
+		{Kind: api.Float, Str: "a"},
+	}
+}
+
+// alike holds two rows against each other field by field, floats by their bits.
+func alike(a, b []api.Value) bool {
+	return slices.EqualFunc(a, b, func(v, w api.Value) bool {
+		return v.Kind == w.Kind && v.Int == w.Int && v.Str == w.Str && math.Float64bits(v.F) == math.Float64bits(w.F)
+	})
+}
+
+// written tells by the chapter's words what Put must tell of one value.
+func written(v api.Value) []byte {
+	head := []byte{byte(v.Kind)}
+	switch v.Kind {
+	case api.Int:
+		return binary.BigEndian.AppendUint64(head, uint64(v.Int)^1<<63)
+	case api.Bool:
+		return append(head, byte(v.Int))
+	case api.Float:
+		n := math.Float64bits(v.F)
+		if n>>63 == 0 {
+			return binary.BigEndian.AppendUint64(head, n|1<<63)
+		}
+		return binary.BigEndian.AppendUint64(head, ^n)
+	}
+	return append(append(head, strings.ReplaceAll(v.Str, "\x00", "\x00\xFF")...), 0, 1)
+}
+
+func put(t *testing.T, l []api.Value) []byte {
+	t.Helper()
+	b, e := code.Put(l)
+	if e != api.OK {
+		t.Fatalf("Put(%v) erred with %d", l, e)
+	}
+	return b
+}
+
+// refuse asks Get and Whole of bytes that stand for no values.
+func refuse(t *testing.T, b []byte) {
+	t.Helper()
+	if l, e := code.Get(b); e != api.ErrCode || len(l) != 0 {
+		t.Errorf("Get(% x) tells %v, %d", b, l, e)
+	}
+	if code.Whole(b) {
+		t.Errorf("Whole(% x)", b)
+	}
+}
+
+func TestP3_1BytesOfEachKind(t *testing.T) {
+	for _, c := range []struct {
+		l    []api.Value
+		want string
+	}{
+		{nil, ""},
+		{[]api.Value{}, ""},
+		{[]api.Value{ofInt(0)}, "\x01\x80\x00\x00\x00\x00\x00\x00\x00"},
+		{[]api.Value{ofInt(-1)}, "\x01\x7F\xFF\xFF\xFF\xFF\xFF\xFF\xFF"},
+		{[]api.Value{ofInt(0x0102030405060708)}, "\x01\x81\x02\x03\x04\x05\x06\x07\x08"},
+		{[]api.Value{ofInt(math.MinInt64)}, "\x01\x00\x00\x00\x00\x00\x00\x00\x00"},
+		{[]api.Value{ofInt(math.MaxInt64)}, "\x01\xFF\xFF\xFF\xFF\xFF\xFF\xFF\xFF"},
+		{[]api.Value{ofBool(0)}, "\x02\x00"},
+		{[]api.Value{ofBool(1)}, "\x02\x01"},
+		{[]api.Value{ofStr("a")}, "\x03a\x00\x01"},
+		{[]api.Value{ofStr("")}, "\x03\x00\x01"},
+		{[]api.Value{ofStr("\x00")}, "\x03\x00\xFF\x00\x01"},
+		{[]api.Value{ofStr("\x00\x01\xFF\x00")}, "\x03\x00\xFF\x01\xFF\x00\xFF\x00\x01"},
+		{[]api.Value{ofStr("\u00E9")}, "\x03\xC3\xA9\x00\x01"},
+		{[]api.Value{ofBytes("")}, "\x04\x00\x01"},
+		{[]api.Value{ofBytes("a\x00b\xFF")}, "\x04a\x00\xFFb\xFF\x00\x01"},
+		{[]api.Value{ofBytes(strings.Repeat("\x00", 60))}, "\x04" + strings.Repeat("\x00\xFF", 60) + "\x00\x01"},
+		{[]api.Value{ofFloat(0)}, "\x05\x80\x00\x00\x00\x00\x00\x00\x00"},
+		{[]api.Value{ofFloat(minusNought)}, "\x05\x7F\xFF\xFF\xFF\xFF\xFF\xFF\xFF"},
+		{[]api.Value{ofFloat(1)}, "\x05\xBF\xF0\x00\x00\x00\x00\x00\x00"},
+		{[]api.Value{ofFloat(-1)}, "\x05\x40\x0F\xFF\xFF\xFF\xFF\xFF\xFF"},
+		{[]api.Value{ofFloat(math.Inf(1))}, "\x05\xFF\xF0\x00\x00\x00\x00\x00\x00"},
+		{[]api.Value{ofFloat(math.Inf(-1))}, "\x05\x00\x0F\xFF\xFF\xFF\xFF\xFF\xFF"},
+		{[]api.Value{ofFloat(signalNaN)}, "\x05\xFF\xF0\x00\x00\x00\x00\x00\x01"},
+		{[]api.Value{ofFloat(lastNaN)}, "\x05\xFF\xFF\xFF\xFF\xFF\xFF\xFF\xFF"},
+		{[]api.Value{ofFloat(firstNaN)}, "\x05\x00\x00\x00\x00\x00\x00\x00\x00"},
+		{[]api.Value{ofStr("b"), ofBool(1), ofStr("")}, "\x03b\x00\x01\x02\x01\x03\x00\x01"},
+	} {
+		if b, e := code.Put(c.l); string(b) != c.want || e != api.OK {
+			t.Errorf("Put(%v) tells % x, %d, not % x", c.l, b, e, c.want)
+		}
+	}
+}
+
+func TestP3_1BytesOfRows(t *testing.T) {
+	all := rising()
+	var want []byte
+	for _, v := range all {
+		want = append(want, written(v)...)
+		if b := put(t, []api.Value{v}); !bytes.Equal(b, written(v)) {
+			t.Errorf("Put(%v) tells % x, not % x", v, b, written(v))
+		}
+	}
+	if b := put(t, all); !bytes.Equal(b, want) {
+		t.Errorf("the bytes of a long row aren't those of its values one behind the other")
+	}
+}
+
+func TestP3_1NoValues(t *testing.T) {
+	for _, v := range noValues() {
+		for _, l := range [][]api.Value{{v}, {v, ofInt(1)}, {ofInt(1), v}, {ofStr("a"), v, ofBool(0)}, {v, v}} {
+			if b, e := code.Put(l); e != api.ErrCode || len(b) != 0 {
+				t.Errorf("Put(%v) tells % x, %d", l, b, e)
+			}
+		}
+	}
+}
+
+func TestP3_2GetTellsWhatWasPut(t *testing.T) {
+	all := rising()
+	rows := [][]api.Value{nil, {}, all}
+	for i, v := range all {
+		rows = append(rows, []api.Value{v}, []api.Value{v, v}, all[i:], all[:i])
+		for _, w := range all {
+			rows = append(rows, []api.Value{v, w})
+		}
+	}
+	for _, l := range rows {
+		b := put(t, l)
+		if got, e := code.Get(b); e != api.OK || !alike(got, l) {
+			t.Fatalf("Get(% x) tells %v, %d, not %v", b, got, e, l)
+		}
+		if !code.Whole(b) {
+			t.Fatalf("not Whole(% x)", b)
+		}
+	}
+}
+
+func TestP3_2NoBytes(t *testing.T) {
+	for _, b := range [][]byte{nil, {}, make([]byte, 0, 9)} {
+		if l, e := code.Get(b); e != api.OK || len(l) != 0 || !code.Whole(b) {
+			t.Errorf("no bytes are a row of no values: %v, %d", l, e)
+		}
+	}
+}
+
+func TestP3_2WrongBytes(t *testing.T) {
+	long := strings.Repeat("x", 60)
+	for _, s := range []string{
+		"\x00", "\x06", "\xFF", "\x81\x00\x00\x00\x00\x00\x00\x00\x00",
+		"\x00\x00\x01", "\x06\x00\x01",
+		"\x01", "\x01\x80", "\x01\x80\x00\x00\x00\x00\x00\x00",
+		"\x02", "\x02\x02", "\x02\x80", "\x02\xFF",
+		"\x03", "\x04", "\x03a", "\x04a", "\x03\x00", "\x03a\x00", "\x03\x00\xFF", "\x04a\x00\xFF",
+		"\x03\x00\x00", "\x03\x00\x00\x01", "\x03\x00\x02", "\x03\x00\xFE\x00\x01", "\x04\x00\x7F\x00\x01", "\x04a\x00a\x00\x01",
+		"\x03x" + long + "\x00\x01", "\x04x" + long + "\x00\x01", "\x03" + long + "\x00\xFF\x00\x01", "\x03" + long + long + "\x00\x01",
+		"\x04" + strings.Repeat("\x00\xFF", 61) + "\x00\x01",
+		"\x05", "\x05\x80\x00\x00\x00\x00\x00\x00",
+		"\x02\x01\x00", "\x02\x01\x01", "\x02\x01\x02", "\x03\x00\x01\x00", "\x03\x00\x01\x00\x01", "\x03a\x00\x01\xFF",
+		"\x01\x80\x00\x00\x00\x00\x00\x00\x00\x00", "\x05\x80\x00\x00\x00\x00\x00\x00\x00\x09",
+	} {
+		refuse(t, []byte(s))
+		refuse(t, append([]byte("\x02\x01"), s...))
+	}
+}
+
+func TestP3_2LongestStrings(t *testing.T) {
+	for _, s := range []string{strings.Repeat("x", 60), strings.Repeat("\x00", 60), strings.Repeat("\xFF", 60)} {
+		for _, v := range []api.Value{ofStr(s), ofBytes(s)} {
+			if l, e := code.Get(written(v)); e != api.OK || !alike(l, []api.Value{v}) {
+				t.Errorf("a string of 60 bytes: Get tells %v, %d", l, e)
+			}
+			v.Str += s[:1]
+			refuse(t, written(v))
+		}
+	}
+}
+
+func TestP3_2BytesCutOffAndLeftOver(t *testing.T) {
+	for _, v := range rising() {
+		b := written(v)
+		for n := 1; n < len(b); n++ {
+			refuse(t, b[:n])
+			refuse(t, append(bytes.Clone(b), b[:n]...))
+		}
+		for c := range 256 {
+			refuse(t, append(bytes.Clone(b), byte(c)))
+		}
+	}
+}
+
+// All short bytes, told by the chapter's words: a Bool and an empty string alone need three bytes or fewer.
+func TestP3_2AllShortBytes(t *testing.T) {
+	rows := map[string][]api.Value{
+		"\x02\x00":     {ofBool(0)},
+		"\x02\x01":     {ofBool(1)},
+		"\x03\x00\x01": {ofStr("")},
+		"\x04\x00\x01": {ofBytes("")},
+	}
+	for n := range 1 << 16 {
+		ask := [][]byte{{byte(n)}, {byte(n), byte(n >> 8)}}
+		for c := range 10 {
+			ask = append(ask, []byte{byte(c), byte(n), byte(n >> 8)})
+		}
+		for _, b := range ask {
+			want, ok := rows[string(b)]
+			if got, e := code.Get(b); code.Whole(b) != ok || (e == api.OK) != ok || !alike(got, want) {
+				t.Fatalf("Get(% x) tells %v, %d", b, got, e)
+			}
+		}
+	}
+}
+
+// Whatever Get finds, Put tells those very bytes of it; whatever it refuses, Whole refuses.
+func TestP3_2OneWayToWrite(t *testing.T) {
+	chance := rand.New(rand.NewSource(3))
+	all := rising()
+	few := []byte{0, 1, 2, 3, 4, 5, 6, 'a', 255}
+	found, refused := 0, 0
+	for range 200000 {
+		var b []byte
+		for range chance.Intn(4) {
+			b = append(b, written(all[chance.Intn(len(all))])...)
+		}
+		for range chance.Intn(3) {
+			at, c := chance.Intn(len(b)+1), few[chance.Intn(len(few))]
+			if chance.Intn(2) == 0 || at == len(b) {
+				b = slices.Insert(b, at, c)
+			} else {
+				b[at] = c
+			}
+		}
+		l, e := code.Get(b)
+		if code.Whole(b) != (e == api.OK) {
+			t.Fatalf("Get and Whole differ at % x", b)
+		}
+		if e != api.OK {
+			refused++
+			if e != api.ErrCode || len(l) != 0 {
+				t.Fatalf("Get(% x) tells %v, %d", b, l, e)
+			}
+			continue
+		}
+		found++
+		if again := put(t, l); !bytes.Equal(again, b) {
+			t.Fatalf("Get(% x) tells %v, whose bytes are % x", b, l, again)
+		}
+	}
+	if found < 10000 || refused < 10000 {
+		t.Errorf("too few tries on one side: %d found, %d refused", found, refused)
+	}
+}
+
+// byRows holds Put's bytes against Rows for every pair of rows.
+func byRows(t *testing.T, rows [][]api.Value) {
+	t.Helper()
+	var all [][]byte
+	for _, l := range rows {
+		all = append(all, put(t, l))
+	}
+	for i, a := range rows {
+		for j, b := range rows {
+			if got, want := bytes.Compare(all[i], all[j]), value.Rows(a, b); got != want {
+				t.Fatalf("% x and % x stand as %d, the rows %v and %v as %d", all[i], all[j], got, a, b, want)
+			}
+		}
+	}
+}
+
+func TestP3_3ValuesRise(t *testing.T) {
+	var last []byte
+	for i, v := range rising() {
+		b := put(t, []api.Value{v})
+		if i > 0 && bytes.Compare(last, b) >= 0 {
+			t.Errorf("% x stands not ahead of % x", last, b)
+		}
+		last = b
+	}
+}
+
+func TestP3_3OrderOfRows(t *testing.T) {
+	all := rising()
+	byRows(t, [][]api.Value{nil, {}})
+	var ones, twos, threes [][]api.Value
+	for _, v := range all {
+		ones = append(ones, []api.Value{v})
+	}
+	byRows(t, ones)
+	// Behind a string that ends, what follows must not be held against a byte of a longer string.
+	heads := []api.Value{ofStr(""), ofStr("\x00"), ofStr("a"), ofStr("a\x00"), ofStr("a\x01"), ofStr("a\xFF"), ofBytes("a"), ofInt(-1), ofInt(0), ofBool(1), ofFloat(minusNought), ofFloat(0)}
+	for _, v := range heads {
+		for _, w := range all {
+			twos = append(twos, []api.Value{v, w})
+		}
+		for _, w := range heads {
+			for _, x := range heads[:7] {
+				threes = append(threes, []api.Value{v, w, x})
+			}
+		}
+	}
+	byRows(t, twos)
+	byRows(t, threes)
+}
+
+func TestP3_3OrderOfNumbers(t *testing.T) {
+	chance := rand.New(rand.NewSource(33))
+	var rows [][]api.Value
+	for range 500 {
+		n := chance.Uint64() >> chance.Intn(64)
+		rows = append(rows, []api.Value{ofInt(int64(n))}, []api.Value{ofInt(-int64(n))}, []api.Value{ofFloat(math.Float64frombits(n))}, []api.Value{ofFloat(math.Float64frombits(^n))})
+	}
+	byRows(t, rows)
+}
+
+func TestArgumentsStayAsTheyAre(t *testing.T) {
+	row := slices.Grow(rising(), 4)
+	spare := row[len(row):cap(row)]
+	for i := range spare {
+		spare[i] = ofInt(77)
+	}
+	kept := slices.Clone(row[:cap(row)])
+	b := put(t, row)
+	if !alike(row[:cap(row)], kept) {
+		t.Errorf("Put changed its row or the room behind it")
+	}
+	b = append(b, 7, 7, 7)
+	keptBytes := bytes.Clone(b)
+	code.Get(b[:len(b)-3])
+	code.Whole(b[:len(b)-3])
+	if !bytes.Equal(b, keptBytes) {
+		t.Errorf("Get or Whole changed its bytes or the room behind them")
+	}
+}
+
+func TestAnswersAreNewMemory(t *testing.T) {
+	row := []api.Value{ofStr("abc"), ofInt(1), ofBytes("\x00d")}
+	first := put(t, row)
+	second := put(t, row)
+	kept := bytes.Clone(second)
+	for i := range first[:cap(first)] {
+		first[:cap(first)][i] = 9
+	}
+	if !bytes.Equal(second, kept) {
+		t.Errorf("two answers of Put share memory")
+	}
+	got, _ := code.Get(second)
+	again, _ := code.Get(second)
+	clear(second)
+	if !alike(got, row) {
+		t.Errorf("Get keeps the bytes that it was handed")
+	}
+	clear(got[:cap(got)])
+	if !alike(again, row) {
+		t.Errorf("two answers of Get share memory")
+	}
+}

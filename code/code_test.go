@@ -11,24 +11,9 @@ import (
 
 	"rialto/api"
 	"rialto/code"
+	"rialto/sample"
 	"rialto/value"
 )
-
-// Floats by their bits: == tells nothing of most of them.
-var (
-	minusNought = math.Copysign(0, -1)
-	firstNaN    = math.Float64frombits(0xFFFFFFFFFFFFFFFF)
-	minusNaN    = math.Float64frombits(0xFFF8000000000000)
-	signalNaN   = math.Float64frombits(0x7FF0000000000001)
-	quietNaN    = math.Float64frombits(0x7FF8000000000000)
-	lastNaN     = math.Float64frombits(0x7FFFFFFFFFFFFFFF)
-)
-
-func ofInt(n int64) api.Value     { return api.Value{Kind: api.Int, Int: n} }
-func ofBool(n int64) api.Value    { return api.Value{Kind: api.Bool, Int: n} }
-func ofStr(s string) api.Value    { return api.Value{Kind: api.Str, Str: s} }
-func ofBytes(s string) api.Value  { return api.Value{Kind: api.Bytes, Str: s} }
-func ofFloat(f float64) api.Value { return api.Value{Kind: api.Float, F: f} }
 
 // risingStrings stand byte by byte, a shorter one ahead of one that begins like it.
 func risingStrings() []string {
@@ -44,20 +29,20 @@ func risingStrings() []string {
 func rising() []api.Value {
 	var l []api.Value
 	for _, n := range []int64{math.MinInt64, math.MinInt64 + 1, -1 << 32, -257, -256, -1, 0, 1, 255, 256, 1 << 32, math.MaxInt64 - 1, math.MaxInt64} {
-		l = append(l, ofInt(n))
+		l = append(l, sample.Int(n))
 	}
-	l = append(l, ofBool(0), ofBool(1))
+	l = append(l, sample.Bool(0), sample.Bool(1))
 	for _, s := range risingStrings() {
-		l = append(l, ofStr(s))
+		l = append(l, sample.Str(s))
 	}
 	for _, s := range risingStrings() {
-		l = append(l, ofBytes(s))
+		l = append(l, sample.Bytes(s))
 	}
 	for _, f := range []float64{
-		firstNaN, minusNaN, math.Inf(-1), -math.MaxFloat64, -1, -math.SmallestNonzeroFloat64, minusNought,
-		0, math.SmallestNonzeroFloat64, 1, 1.5, math.MaxFloat64, math.Inf(1), signalNaN, quietNaN, lastNaN,
+		sample.FirstNaN(), sample.MinusNaN(), math.Inf(-1), -math.MaxFloat64, -1, -math.SmallestNonzeroFloat64, sample.MinusNought(),
+		0, math.SmallestNonzeroFloat64, 1, 1.5, math.MaxFloat64, math.Inf(1), sample.SignalNaN(), sample.QuietNaN(), sample.LastNaN(),
 	} {
-		l = append(l, ofFloat(f))
+		l = append(l, sample.Float(f))
 	}
 	return l
 }
@@ -71,26 +56,19 @@ func noValues() []api.Value {
 		{Kind: 256 + api.Int},
 		{Kind: math.MinInt},
 		{Kind: api.Int, Str: "a"},
-		{Kind: api.Int, F: minusNought},
-		ofBool(-1),
-		ofBool(2),
-		ofBool(257),
+		{Kind: api.Int, F: sample.MinusNought()},
+		sample.Bool(-1),
+		sample.Bool(2),
+		sample.Bool(257),
 		{Kind: api.Bool, Str: "a"},
 		{Kind: api.Str, Int: 1},
-		{Kind: api.Str, F: quietNaN},
-		ofStr(strings.Repeat("x", 61)),
-		ofBytes(strings.Repeat("\x00", 61)),
+		{Kind: api.Str, F: sample.QuietNaN()},
+		sample.Str(strings.Repeat("x", 61)),
+		sample.Bytes(strings.Repeat("\x00", 61)),
 		{Kind: api.Bytes, Int: -1},
 		{Kind: api.Float, Int: 1},
 		{Kind: api.Float, Str: "a"},
 	}
-}
-
-// alike holds two rows against each other field by field, floats by their bits.
-func alike(a, b []api.Value) bool {
-	return slices.EqualFunc(a, b, func(v, w api.Value) bool {
-		return v.Kind == w.Kind && v.Int == w.Int && v.Str == w.Str && math.Float64bits(v.F) == math.Float64bits(w.F)
-	})
 }
 
 // written tells by the chapter's words what Put must tell of one value.
@@ -138,31 +116,31 @@ func TestP3_1BytesOfEachKind(t *testing.T) {
 	}{
 		{nil, ""},
 		{[]api.Value{}, ""},
-		{[]api.Value{ofInt(0)}, "\x01\x80\x00\x00\x00\x00\x00\x00\x00"},
-		{[]api.Value{ofInt(-1)}, "\x01\x7F\xFF\xFF\xFF\xFF\xFF\xFF\xFF"},
-		{[]api.Value{ofInt(0x0102030405060708)}, "\x01\x81\x02\x03\x04\x05\x06\x07\x08"},
-		{[]api.Value{ofInt(math.MinInt64)}, "\x01\x00\x00\x00\x00\x00\x00\x00\x00"},
-		{[]api.Value{ofInt(math.MaxInt64)}, "\x01\xFF\xFF\xFF\xFF\xFF\xFF\xFF\xFF"},
-		{[]api.Value{ofBool(0)}, "\x02\x00"},
-		{[]api.Value{ofBool(1)}, "\x02\x01"},
-		{[]api.Value{ofStr("a")}, "\x03a\x00\x01"},
-		{[]api.Value{ofStr("")}, "\x03\x00\x01"},
-		{[]api.Value{ofStr("\x00")}, "\x03\x00\xFF\x00\x01"},
-		{[]api.Value{ofStr("\x00\x01\xFF\x00")}, "\x03\x00\xFF\x01\xFF\x00\xFF\x00\x01"},
-		{[]api.Value{ofStr("\u00E9")}, "\x03\xC3\xA9\x00\x01"},
-		{[]api.Value{ofBytes("")}, "\x04\x00\x01"},
-		{[]api.Value{ofBytes("a\x00b\xFF")}, "\x04a\x00\xFFb\xFF\x00\x01"},
-		{[]api.Value{ofBytes(strings.Repeat("\x00", 60))}, "\x04" + strings.Repeat("\x00\xFF", 60) + "\x00\x01"},
-		{[]api.Value{ofFloat(0)}, "\x05\x80\x00\x00\x00\x00\x00\x00\x00"},
-		{[]api.Value{ofFloat(minusNought)}, "\x05\x7F\xFF\xFF\xFF\xFF\xFF\xFF\xFF"},
-		{[]api.Value{ofFloat(1)}, "\x05\xBF\xF0\x00\x00\x00\x00\x00\x00"},
-		{[]api.Value{ofFloat(-1)}, "\x05\x40\x0F\xFF\xFF\xFF\xFF\xFF\xFF"},
-		{[]api.Value{ofFloat(math.Inf(1))}, "\x05\xFF\xF0\x00\x00\x00\x00\x00\x00"},
-		{[]api.Value{ofFloat(math.Inf(-1))}, "\x05\x00\x0F\xFF\xFF\xFF\xFF\xFF\xFF"},
-		{[]api.Value{ofFloat(signalNaN)}, "\x05\xFF\xF0\x00\x00\x00\x00\x00\x01"},
-		{[]api.Value{ofFloat(lastNaN)}, "\x05\xFF\xFF\xFF\xFF\xFF\xFF\xFF\xFF"},
-		{[]api.Value{ofFloat(firstNaN)}, "\x05\x00\x00\x00\x00\x00\x00\x00\x00"},
-		{[]api.Value{ofStr("b"), ofBool(1), ofStr("")}, "\x03b\x00\x01\x02\x01\x03\x00\x01"},
+		{[]api.Value{sample.Int(0)}, "\x01\x80\x00\x00\x00\x00\x00\x00\x00"},
+		{[]api.Value{sample.Int(-1)}, "\x01\x7F\xFF\xFF\xFF\xFF\xFF\xFF\xFF"},
+		{[]api.Value{sample.Int(0x0102030405060708)}, "\x01\x81\x02\x03\x04\x05\x06\x07\x08"},
+		{[]api.Value{sample.Int(math.MinInt64)}, "\x01\x00\x00\x00\x00\x00\x00\x00\x00"},
+		{[]api.Value{sample.Int(math.MaxInt64)}, "\x01\xFF\xFF\xFF\xFF\xFF\xFF\xFF\xFF"},
+		{[]api.Value{sample.Bool(0)}, "\x02\x00"},
+		{[]api.Value{sample.Bool(1)}, "\x02\x01"},
+		{[]api.Value{sample.Str("a")}, "\x03a\x00\x01"},
+		{[]api.Value{sample.Str("")}, "\x03\x00\x01"},
+		{[]api.Value{sample.Str("\x00")}, "\x03\x00\xFF\x00\x01"},
+		{[]api.Value{sample.Str("\x00\x01\xFF\x00")}, "\x03\x00\xFF\x01\xFF\x00\xFF\x00\x01"},
+		{[]api.Value{sample.Str("\u00E9")}, "\x03\xC3\xA9\x00\x01"},
+		{[]api.Value{sample.Bytes("")}, "\x04\x00\x01"},
+		{[]api.Value{sample.Bytes("a\x00b\xFF")}, "\x04a\x00\xFFb\xFF\x00\x01"},
+		{[]api.Value{sample.Bytes(strings.Repeat("\x00", 60))}, "\x04" + strings.Repeat("\x00\xFF", 60) + "\x00\x01"},
+		{[]api.Value{sample.Float(0)}, "\x05\x80\x00\x00\x00\x00\x00\x00\x00"},
+		{[]api.Value{sample.Float(sample.MinusNought())}, "\x05\x7F\xFF\xFF\xFF\xFF\xFF\xFF\xFF"},
+		{[]api.Value{sample.Float(1)}, "\x05\xBF\xF0\x00\x00\x00\x00\x00\x00"},
+		{[]api.Value{sample.Float(-1)}, "\x05\x40\x0F\xFF\xFF\xFF\xFF\xFF\xFF"},
+		{[]api.Value{sample.Float(math.Inf(1))}, "\x05\xFF\xF0\x00\x00\x00\x00\x00\x00"},
+		{[]api.Value{sample.Float(math.Inf(-1))}, "\x05\x00\x0F\xFF\xFF\xFF\xFF\xFF\xFF"},
+		{[]api.Value{sample.Float(sample.SignalNaN())}, "\x05\xFF\xF0\x00\x00\x00\x00\x00\x01"},
+		{[]api.Value{sample.Float(sample.LastNaN())}, "\x05\xFF\xFF\xFF\xFF\xFF\xFF\xFF\xFF"},
+		{[]api.Value{sample.Float(sample.FirstNaN())}, "\x05\x00\x00\x00\x00\x00\x00\x00\x00"},
+		{[]api.Value{sample.Str("b"), sample.Bool(1), sample.Str("")}, "\x03b\x00\x01\x02\x01\x03\x00\x01"},
 	} {
 		if b, e := code.Put(c.l); string(b) != c.want || e != api.OK {
 			t.Errorf("Put(%v) tells % x, %d, not % x", c.l, b, e, c.want)
@@ -186,7 +164,7 @@ func TestP3_1BytesOfRows(t *testing.T) {
 
 func TestP3_1NoValues(t *testing.T) {
 	for _, v := range noValues() {
-		for _, l := range [][]api.Value{{v}, {v, ofInt(1)}, {ofInt(1), v}, {ofStr("a"), v, ofBool(0)}, {v, v}} {
+		for _, l := range [][]api.Value{{v}, {v, sample.Int(1)}, {sample.Int(1), v}, {sample.Str("a"), v, sample.Bool(0)}, {v, v}} {
 			if b, e := code.Put(l); e != api.ErrCode || len(b) != 0 {
 				t.Errorf("Put(%v) tells % x, %d", l, b, e)
 			}
@@ -205,7 +183,7 @@ func TestP3_2GetTellsWhatWasPut(t *testing.T) {
 	}
 	for _, l := range rows {
 		b := put(t, l)
-		if got, e := code.Get(b); e != api.OK || !alike(got, l) {
+		if got, e := code.Get(b); e != api.OK || !sample.RowsAlike(got, l) {
 			t.Fatalf("Get(% x) tells %v, %d, not %v", b, got, e, l)
 		}
 		if !code.Whole(b) {
@@ -244,8 +222,8 @@ func TestP3_2WrongBytes(t *testing.T) {
 
 func TestP3_2LongestStrings(t *testing.T) {
 	for _, s := range []string{strings.Repeat("x", 60), strings.Repeat("\x00", 60), strings.Repeat("\xFF", 60)} {
-		for _, v := range []api.Value{ofStr(s), ofBytes(s)} {
-			if l, e := code.Get(written(v)); e != api.OK || !alike(l, []api.Value{v}) {
+		for _, v := range []api.Value{sample.Str(s), sample.Bytes(s)} {
+			if l, e := code.Get(written(v)); e != api.OK || !sample.RowsAlike(l, []api.Value{v}) {
 				t.Errorf("a string of 60 bytes: Get tells %v, %d", l, e)
 			}
 			v.Str += s[:1]
@@ -270,10 +248,10 @@ func TestP3_2BytesCutOffAndLeftOver(t *testing.T) {
 // All short bytes, told by the chapter's words: a Bool and an empty string alone need three bytes or fewer.
 func TestP3_2AllShortBytes(t *testing.T) {
 	rows := map[string][]api.Value{
-		"\x02\x00":     {ofBool(0)},
-		"\x02\x01":     {ofBool(1)},
-		"\x03\x00\x01": {ofStr("")},
-		"\x04\x00\x01": {ofBytes("")},
+		"\x02\x00":     {sample.Bool(0)},
+		"\x02\x01":     {sample.Bool(1)},
+		"\x03\x00\x01": {sample.Str("")},
+		"\x04\x00\x01": {sample.Bytes("")},
 	}
 	for n := range 1 << 16 {
 		ask := [][]byte{{byte(n)}, {byte(n), byte(n >> 8)}}
@@ -282,7 +260,7 @@ func TestP3_2AllShortBytes(t *testing.T) {
 		}
 		for _, b := range ask {
 			want, ok := rows[string(b)]
-			if got, e := code.Get(b); code.Whole(b) != ok || (e == api.OK) != ok || !alike(got, want) {
+			if got, e := code.Get(b); code.Whole(b) != ok || (e == api.OK) != ok || !sample.RowsAlike(got, want) {
 				t.Fatalf("Get(% x) tells %v, %d", b, got, e)
 			}
 		}
@@ -365,7 +343,7 @@ func TestP3_3OrderOfRows(t *testing.T) {
 	}
 	byRows(t, ones)
 	// Behind a string that ends, what follows must not be held against a byte of a longer string.
-	heads := []api.Value{ofStr(""), ofStr("\x00"), ofStr("a"), ofStr("a\x00"), ofStr("a\x01"), ofStr("a\xFF"), ofBytes("a"), ofInt(-1), ofInt(0), ofBool(1), ofFloat(minusNought), ofFloat(0)}
+	heads := []api.Value{sample.Str(""), sample.Str("\x00"), sample.Str("a"), sample.Str("a\x00"), sample.Str("a\x01"), sample.Str("a\xFF"), sample.Bytes("a"), sample.Int(-1), sample.Int(0), sample.Bool(1), sample.Float(sample.MinusNought()), sample.Float(0)}
 	for _, v := range heads {
 		for _, w := range all {
 			twos = append(twos, []api.Value{v, w})
@@ -385,7 +363,7 @@ func TestP3_3OrderOfNumbers(t *testing.T) {
 	var rows [][]api.Value
 	for range 500 {
 		n := chance.Uint64() >> chance.Intn(64)
-		rows = append(rows, []api.Value{ofInt(int64(n))}, []api.Value{ofInt(-int64(n))}, []api.Value{ofFloat(math.Float64frombits(n))}, []api.Value{ofFloat(math.Float64frombits(^n))})
+		rows = append(rows, []api.Value{sample.Int(int64(n))}, []api.Value{sample.Int(-int64(n))}, []api.Value{sample.Float(math.Float64frombits(n))}, []api.Value{sample.Float(math.Float64frombits(^n))})
 	}
 	byRows(t, rows)
 }
@@ -394,11 +372,11 @@ func TestArgumentsStayAsTheyAre(t *testing.T) {
 	row := slices.Grow(rising(), 4)
 	spare := row[len(row):cap(row)]
 	for i := range spare {
-		spare[i] = ofInt(77)
+		spare[i] = sample.Int(77)
 	}
 	kept := slices.Clone(row[:cap(row)])
 	b := put(t, row)
-	if !alike(row[:cap(row)], kept) {
+	if !sample.RowsAlike(row[:cap(row)], kept) {
 		t.Errorf("Put changed its row or the room behind it")
 	}
 	b = append(b, 7, 7, 7)
@@ -411,7 +389,7 @@ func TestArgumentsStayAsTheyAre(t *testing.T) {
 }
 
 func TestAnswersAreNewMemory(t *testing.T) {
-	row := []api.Value{ofStr("abc"), ofInt(1), ofBytes("\x00d")}
+	row := []api.Value{sample.Str("abc"), sample.Int(1), sample.Bytes("\x00d")}
 	first := put(t, row)
 	second := put(t, row)
 	kept := bytes.Clone(second)
@@ -424,11 +402,11 @@ func TestAnswersAreNewMemory(t *testing.T) {
 	got, _ := code.Get(second)
 	again, _ := code.Get(second)
 	clear(second)
-	if !alike(got, row) {
+	if !sample.RowsAlike(got, row) {
 		t.Errorf("Get keeps the bytes that it was handed")
 	}
 	clear(got[:cap(got)])
-	if !alike(again, row) {
+	if !sample.RowsAlike(again, row) {
 		t.Errorf("two answers of Get share memory")
 	}
 }

@@ -9,29 +9,13 @@ import (
 	"testing"
 
 	"rialto/api"
+	"rialto/sample"
 	"rialto/value"
 )
 
-// Floats by their bits: == tells nothing of most of them.
-var (
-	minusNought = math.Copysign(0, -1)
-	firstNaN    = math.Float64frombits(0xFFFFFFFFFFFFFFFF)
-	minusNaN    = math.Float64frombits(0xFFF8000000000000)
-	signalNaN   = math.Float64frombits(0x7FF0000000000001)
-	quietNaN    = math.Float64frombits(0x7FF8000000000000)
-	loadedNaN   = math.Float64frombits(0x7FF8000000000001)
-	lastNaN     = math.Float64frombits(0x7FFFFFFFFFFFFFFF)
-)
-
-func ofInt(n int64) api.Value     { return api.Value{Kind: api.Int, Int: n} }
-func ofBool(n int64) api.Value    { return api.Value{Kind: api.Bool, Int: n} }
-func ofStr(s string) api.Value    { return api.Value{Kind: api.Str, Str: s} }
-func ofBytes(s string) api.Value  { return api.Value{Kind: api.Bytes, Str: s} }
-func ofFloat(f float64) api.Value { return api.Value{Kind: api.Float, F: f} }
-
 // oddFloats are those that are 0 by == or nothing by ==, and the ends.
 func oddFloats() []float64 {
-	return []float64{minusNought, firstNaN, minusNaN, signalNaN, quietNaN, loadedNaN, lastNaN,
+	return []float64{sample.MinusNought(), sample.FirstNaN(), sample.MinusNaN(), sample.SignalNaN(), sample.QuietNaN(), sample.LoadedNaN(), sample.LastNaN(),
 		math.Inf(1), math.Inf(-1), math.SmallestNonzeroFloat64, -math.SmallestNonzeroFloat64, math.MaxFloat64, 1, -1}
 }
 
@@ -42,63 +26,63 @@ func rising() []api.Value {
 		{Kind: -1},
 		{Kind: -1, F: 1},
 		{},
-		{F: quietNaN},
+		{F: sample.QuietNaN()},
 		{Str: "a"},
 		{Int: 1},
-		ofInt(math.MinInt64),
-		ofInt(-3),
-		ofInt(-1),
-		{Kind: api.Int, F: minusNought},
-		ofInt(0),
+		sample.Int(math.MinInt64),
+		sample.Int(-3),
+		sample.Int(-1),
+		{Kind: api.Int, F: sample.MinusNought()},
+		sample.Int(0),
 		{Kind: api.Int, Str: "a", F: -1},
 		{Kind: api.Int, Str: "a"},
-		ofInt(1),
-		ofInt(math.MaxInt64),
-		ofBool(-1),
-		ofBool(0),
-		ofBool(1),
-		ofBool(2),
+		sample.Int(1),
+		sample.Int(math.MaxInt64),
+		sample.Bool(-1),
+		sample.Bool(0),
+		sample.Bool(1),
+		sample.Bool(2),
 		{Kind: api.Str, Int: -1, Str: "z"},
-		ofStr(""),
-		ofStr("\x00"),
-		ofStr("\x00\x00"),
-		ofStr("\x01"),
-		ofStr("A"),
-		ofStr("a"),
-		ofStr("a\x00"),
-		ofStr("aa"),
-		ofStr("ab"),
-		ofStr("b"),
-		ofStr(strings.Repeat("x", 60)),
-		ofStr(strings.Repeat("x", 61)),
-		ofStr("\x7F"),
-		ofStr("\x80"),
-		ofStr("\u00E9"),
-		ofStr("\u20AC"),
-		ofStr("\xFF"),
-		ofStr("\xFF\x00"),
+		sample.Str(""),
+		sample.Str("\x00"),
+		sample.Str("\x00\x00"),
+		sample.Str("\x01"),
+		sample.Str("A"),
+		sample.Str("a"),
+		sample.Str("a\x00"),
+		sample.Str("aa"),
+		sample.Str("ab"),
+		sample.Str("b"),
+		sample.Str(strings.Repeat("x", 60)),
+		sample.Str(strings.Repeat("x", 61)),
+		sample.Str("\x7F"),
+		sample.Str("\x80"),
+		sample.Str("\u00E9"),
+		sample.Str("\u20AC"),
+		sample.Str("\xFF"),
+		sample.Str("\xFF\x00"),
 		{Kind: api.Str, Int: 1},
-		ofBytes(""),
-		ofBytes("a"),
-		ofBytes("\xFF\xFF"),
-		{Kind: api.Float, Int: -1, F: lastNaN},
-		ofFloat(firstNaN),
-		ofFloat(minusNaN),
-		ofFloat(math.Inf(-1)),
-		ofFloat(-math.MaxFloat64),
-		ofFloat(-1),
-		ofFloat(-math.SmallestNonzeroFloat64),
-		ofFloat(minusNought),
-		ofFloat(0),
-		ofFloat(math.SmallestNonzeroFloat64),
-		ofFloat(1),
-		ofFloat(math.MaxFloat64),
-		ofFloat(math.Inf(1)),
-		ofFloat(signalNaN),
-		ofFloat(quietNaN),
-		ofFloat(loadedNaN),
-		ofFloat(lastNaN),
-		{Kind: api.Float, Str: "a", F: firstNaN},
+		sample.Bytes(""),
+		sample.Bytes("a"),
+		sample.Bytes("\xFF\xFF"),
+		{Kind: api.Float, Int: -1, F: sample.LastNaN()},
+		sample.Float(sample.FirstNaN()),
+		sample.Float(sample.MinusNaN()),
+		sample.Float(math.Inf(-1)),
+		sample.Float(-math.MaxFloat64),
+		sample.Float(-1),
+		sample.Float(-math.SmallestNonzeroFloat64),
+		sample.Float(sample.MinusNought()),
+		sample.Float(0),
+		sample.Float(math.SmallestNonzeroFloat64),
+		sample.Float(1),
+		sample.Float(math.MaxFloat64),
+		sample.Float(math.Inf(1)),
+		sample.Float(sample.SignalNaN()),
+		sample.Float(sample.QuietNaN()),
+		sample.Float(sample.LoadedNaN()),
+		sample.Float(sample.LastNaN()),
+		{Kind: api.Float, Str: "a", F: sample.FirstNaN()},
 		{Kind: api.Float + 1},
 		{Kind: 256 + api.Int},
 		{Kind: math.MaxInt},
@@ -121,26 +105,21 @@ func twins(l []api.Value) []api.Value {
 	return all
 }
 
-// alike holds two values against each other field by field, floats by their bits.
-func alike(a, b api.Value) bool {
-	return a.Kind == b.Kind && a.Int == b.Int && a.Str == b.Str && math.Float64bits(a.F) == math.Float64bits(b.F)
-}
-
 func TestP2_1ValuesOfEachKind(t *testing.T) {
 	for _, v := range []api.Value{
-		ofInt(0), ofInt(1), ofInt(-1), ofInt(math.MinInt64), ofInt(math.MaxInt64),
-		ofBool(0), ofBool(1),
-		ofStr(""), ofStr("a"), ofStr("\x00"), ofStr("\xFF\xFE"), ofStr(strings.Repeat("x", 59)), ofStr(strings.Repeat("x", 60)),
-		ofStr(strings.Repeat("\u20AC", 20)),
-		ofBytes(""), ofBytes("a"), ofBytes("\x00"), ofBytes("\xFF\xFE"), ofBytes(strings.Repeat("\x00", 60)),
-		ofFloat(0), ofFloat(2.5),
+		sample.Int(0), sample.Int(1), sample.Int(-1), sample.Int(math.MinInt64), sample.Int(math.MaxInt64),
+		sample.Bool(0), sample.Bool(1),
+		sample.Str(""), sample.Str("a"), sample.Str("\x00"), sample.Str("\xFF\xFE"), sample.Str(strings.Repeat("x", 59)), sample.Str(strings.Repeat("x", 60)),
+		sample.Str(strings.Repeat("\u20AC", 20)),
+		sample.Bytes(""), sample.Bytes("a"), sample.Bytes("\x00"), sample.Bytes("\xFF\xFE"), sample.Bytes(strings.Repeat("\x00", 60)),
+		sample.Float(0), sample.Float(2.5),
 	} {
 		if !value.Is(v) {
 			t.Errorf("%#v is a value", v)
 		}
 	}
 	for _, f := range oddFloats() {
-		if !value.Is(ofFloat(f)) {
+		if !value.Is(sample.Float(f)) {
 			t.Errorf("a Float with the bits %#x is a value", math.Float64bits(f))
 		}
 	}
@@ -149,13 +128,13 @@ func TestP2_1ValuesOfEachKind(t *testing.T) {
 func TestP2_1NoValues(t *testing.T) {
 	for _, v := range []api.Value{
 		{Kind: api.Int, Str: "a"}, {Kind: api.Int, Int: 1, Str: "\x00"},
-		ofBool(2), ofBool(-1), ofBool(256), ofBool(math.MinInt64), ofBool(math.MaxInt64),
+		sample.Bool(2), sample.Bool(-1), sample.Bool(256), sample.Bool(math.MinInt64), sample.Bool(math.MaxInt64),
 		{Kind: api.Bool, Str: "a"}, {Kind: api.Bool, Int: 1, Str: "a"},
-		ofStr(strings.Repeat("x", 61)), ofStr(strings.Repeat("\u20AC", 20) + "x"), ofStr(strings.Repeat("x", 1000)),
+		sample.Str(strings.Repeat("x", 61)), sample.Str(strings.Repeat("\u20AC", 20) + "x"), sample.Str(strings.Repeat("x", 1000)),
 		{Kind: api.Str, Int: 1}, {Kind: api.Str, Int: -1, Str: "a"},
-		ofBytes(strings.Repeat("x", 61)), ofBytes(strings.Repeat("\x00", 61)),
+		sample.Bytes(strings.Repeat("x", 61)), sample.Bytes(strings.Repeat("\x00", 61)),
 		{Kind: api.Bytes, Int: 1}, {Kind: api.Bytes, Int: -1, Str: "a"},
-		{Kind: api.Float, Int: 1}, {Kind: api.Float, Int: -1, F: 1}, {Kind: api.Float, Str: "a"}, {Kind: api.Float, Str: "\x00", F: quietNaN},
+		{Kind: api.Float, Int: 1}, {Kind: api.Float, Int: -1, F: 1}, {Kind: api.Float, Str: "a"}, {Kind: api.Float, Str: "\x00", F: sample.QuietNaN()},
 	} {
 		if value.Is(v) {
 			t.Errorf("%#v is no value", v)
@@ -164,7 +143,7 @@ func TestP2_1NoValues(t *testing.T) {
 }
 
 func TestP2_1NoValueButAFloatHasAFloat(t *testing.T) {
-	for _, v := range []api.Value{ofInt(0), ofInt(7), ofBool(0), ofBool(1), ofStr(""), ofStr("a"), ofBytes(""), ofBytes("a")} {
+	for _, v := range []api.Value{sample.Int(0), sample.Int(7), sample.Bool(0), sample.Bool(1), sample.Str(""), sample.Str("a"), sample.Bytes(""), sample.Bytes("a")} {
 		for _, f := range oddFloats() {
 			v.F = f
 			if value.Is(v) {
@@ -223,7 +202,7 @@ func TestP2_2CompareGoesByFieldsInTurn(t *testing.T) {
 
 // rowsRising tells rows in the order that the chapter asks for.
 func rowsRising() [][]api.Value {
-	a, b, nan := ofInt(1), ofInt(2), ofFloat(quietNaN)
+	a, b, nan := sample.Int(1), sample.Int(2), sample.Float(sample.QuietNaN())
 	return [][]api.Value{
 		nil,
 		{{}},
@@ -235,17 +214,17 @@ func rowsRising() [][]api.Value {
 		{a, a, b},
 		{a, b},
 		{a, b, a},
-		{a, ofFloat(minusNought)},
-		{a, ofFloat(0)},
+		{a, sample.Float(sample.MinusNought())},
+		{a, sample.Float(0)},
 		{a, nan},
 		{a, nan, a},
-		{a, ofFloat(loadedNaN)},
+		{a, sample.Float(sample.LoadedNaN())},
 		{b},
 		{b, a},
-		{ofStr("a")},
-		{ofStr("a"), ofStr("b")},
-		{ofStr("ab")},
-		{ofStr("b")},
+		{sample.Str("a")},
+		{sample.Str("a"), sample.Str("b")},
+		{sample.Str("ab")},
+		{sample.Str("b")},
 		{nan, a},
 		{nan, b},
 	}
@@ -263,7 +242,7 @@ func TestP2_2RowsOfAllPairs(t *testing.T) {
 }
 
 func TestP2_2RowsOfNone(t *testing.T) {
-	none := [][]api.Value{nil, {}, make([]api.Value, 0, 3), []api.Value{ofInt(1)}[:0]}
+	none := [][]api.Value{nil, {}, make([]api.Value, 0, 3), []api.Value{sample.Int(1)}[:0]}
 	for _, a := range none {
 		for _, b := range none {
 			if got := value.Rows(a, b); got != 0 {
@@ -303,7 +282,7 @@ func TestP2_3HashOfEachValue(t *testing.T) {
 		}
 	}
 	for _, n := range []int64{0x0102030405060708, -0x0102030405060708, 1 << 56, 255, 256} {
-		l := []api.Value{ofInt(n), ofFloat(math.Float64frombits(uint64(n)))}
+		l := []api.Value{sample.Int(n), sample.Float(math.Float64frombits(uint64(n)))}
 		if got, want := value.Hash(l), hashOf(l); got != want {
 			t.Errorf("Hash with %#x: %d, not %d", n, got, want)
 		}
@@ -327,7 +306,7 @@ func TestP2_3HashOfRows(t *testing.T) {
 }
 
 func TestP2_3HashOfNone(t *testing.T) {
-	for _, l := range [][]api.Value{nil, {}, make([]api.Value, 0, 3), []api.Value{ofInt(1)}[:0]} {
+	for _, l := range [][]api.Value{nil, {}, make([]api.Value, 0, 3), []api.Value{sample.Int(1)}[:0]} {
 		if got := value.Hash(l); got != 14695981039346656037 {
 			t.Errorf("Hash of none: %d", got)
 		}
@@ -345,8 +324,8 @@ func TestP2_3HashTakesTheKindModulo256(t *testing.T) {
 func TestP2_3HashTellsRowsApart(t *testing.T) {
 	seen := map[uint64]int{}
 	rows := append(rowsRising(),
-		[]api.Value{ofStr("ab"), ofStr("c")}, []api.Value{ofStr("a"), ofStr("bc")},
-		[]api.Value{ofStr("abc"), ofStr("")}, []api.Value{ofBytes("ab"), ofStr("c")})
+		[]api.Value{sample.Str("ab"), sample.Str("c")}, []api.Value{sample.Str("a"), sample.Str("bc")},
+		[]api.Value{sample.Str("abc"), sample.Str("")}, []api.Value{sample.Bytes("ab"), sample.Str("c")})
 	for i, l := range rows {
 		h := value.Hash(l)
 		if k, ok := seen[h]; ok {
@@ -359,7 +338,7 @@ func TestP2_3HashTellsRowsApart(t *testing.T) {
 func TestP2_3Zero(t *testing.T) {
 	for kind := api.Int; kind <= api.Float; kind++ {
 		got, e := value.Zero(kind)
-		if !alike(got, api.Value{Kind: kind}) || e != api.OK || !value.Is(got) {
+		if !sample.Alike(got, api.Value{Kind: kind}) || e != api.OK || !value.Is(got) {
 			t.Errorf("Zero(%d): %#v, %d", kind, got, e)
 		}
 	}
@@ -368,7 +347,7 @@ func TestP2_3Zero(t *testing.T) {
 func TestP2_3ZeroOfNoKind(t *testing.T) {
 	for _, kind := range []int{0, -1, 6, 7, 256 + api.Int, 1<<32 + api.Str, -api.Float, math.MinInt, math.MaxInt} {
 		got, e := value.Zero(kind)
-		if !alike(got, api.Value{}) || e != api.ErrValue {
+		if !sample.Alike(got, api.Value{}) || e != api.ErrValue {
 			t.Errorf("Zero(%d): %#v, %d", kind, got, e)
 		}
 	}
@@ -385,7 +364,7 @@ func TestP2_4CompareIsAnOrder(t *testing.T) {
 		}
 		for _, b := range all {
 			ab := value.Compare(a, b)
-			if value.Compare(b, a) != -ab || (ab == 0) != alike(a, b) {
+			if value.Compare(b, a) != -ab || (ab == 0) != sample.Alike(a, b) {
 				t.Fatalf("%#v and %#v: %d, %d", a, b, ab, value.Compare(b, a))
 			}
 			for _, c := range all {
@@ -404,7 +383,7 @@ func TestP2_4SortingTellsOneOrder(t *testing.T) {
 		slices.Reverse(got[:step])
 		slices.Reverse(got)
 		slices.SortFunc(got, value.Compare)
-		if !slices.EqualFunc(got, want, alike) {
+		if !sample.RowsAlike(got, want) {
 			t.Fatalf("sorted, begun at %d: %#v", step, got)
 		}
 	}
@@ -413,7 +392,7 @@ func TestP2_4SortingTellsOneOrder(t *testing.T) {
 func TestP2_4TheSameHasOneHash(t *testing.T) {
 	rows := rowsRising()
 	for _, v := range rising() {
-		rows = append(rows, []api.Value{v}, []api.Value{ofInt(1), v})
+		rows = append(rows, []api.Value{v}, []api.Value{sample.Int(1), v})
 	}
 	for _, a := range rows {
 		for _, b := range rows {
@@ -433,13 +412,13 @@ func TestListsAreReadAlone(t *testing.T) {
 	if value.Hash(a) != hashOf(slices.Clone(a)) {
 		t.Error("Hash reads the room behind a list")
 	}
-	if !slices.EqualFunc(all, rising(), alike) {
+	if !sample.RowsAlike(all, rising()) {
 		t.Error("a list that was handed in is changed")
 	}
 }
 
 func TestExamples(t *testing.T) {
-	if got := value.Compare(ofInt(5), ofBool(0)); got != -1 {
+	if got := value.Compare(sample.Int(5), sample.Bool(0)); got != -1 {
 		t.Errorf("Compare(Int 5, Bool 0): %d", got)
 	}
 }

@@ -15,62 +15,6 @@ import (
 	"rialto/value"
 )
 
-// risingStrings stand byte by byte, a shorter one ahead of one that begins like it.
-func risingStrings() []string {
-	return []string{
-		"", "\x00", "\x00\x00", "\x00\x00\x01", "\x00\x01", "\x00\xFF", "\x00\xFF\x00",
-		"\x01\x00", strings.Repeat("\x01", 60), "\x02",
-		"a", "a\x00", "a\x00\x00", "a\x00\x01", "a\x00b", "a\x00\xFF", "a\x01", "a\x01\x00", "aa", "ab", "a\xFE", "a\xFF", "a\xFF\x00", "a\xFF\xFF",
-		"b", strings.Repeat("x", 59), strings.Repeat("x", 60), "\u00E9", "\xFE", "\xFF", "\xFF\x00", "\xFF\x00\xFF", "\xFF\x01", "\xFF\xFF",
-	}
-}
-
-// rising tells values of all kinds in the order that Compare asks for.
-func rising() []api.Value {
-	var l []api.Value
-	for _, n := range []int64{math.MinInt64, math.MinInt64 + 1, -1 << 32, -257, -256, -1, 0, 1, 255, 256, 1 << 32, math.MaxInt64 - 1, math.MaxInt64} {
-		l = append(l, sample.Int(n))
-	}
-	l = append(l, sample.Bool(0), sample.Bool(1))
-	for _, s := range risingStrings() {
-		l = append(l, sample.Str(s))
-	}
-	for _, s := range risingStrings() {
-		l = append(l, sample.Bytes(s))
-	}
-	for _, f := range []float64{
-		sample.FirstNaN(), sample.MinusNaN(), math.Inf(-1), -math.MaxFloat64, -1, -math.SmallestNonzeroFloat64, sample.MinusNought(),
-		0, math.SmallestNonzeroFloat64, 1, 1.5, math.MaxFloat64, math.Inf(1), sample.SignalNaN(), sample.QuietNaN(), sample.LastNaN(),
-	} {
-		l = append(l, sample.Float(f))
-	}
-	return l
-}
-
-// noValues are what no bytes stand for.
-func noValues() []api.Value {
-	return []api.Value{
-		{},
-		{Kind: -1},
-		{Kind: api.Float + 1},
-		{Kind: 256 + api.Int},
-		{Kind: math.MinInt},
-		{Kind: api.Int, Str: "a"},
-		{Kind: api.Int, F: sample.MinusNought()},
-		sample.Bool(-1),
-		sample.Bool(2),
-		sample.Bool(257),
-		{Kind: api.Bool, Str: "a"},
-		{Kind: api.Str, Int: 1},
-		{Kind: api.Str, F: sample.QuietNaN()},
-		sample.Str(strings.Repeat("x", 61)),
-		sample.Bytes(strings.Repeat("\x00", 61)),
-		{Kind: api.Bytes, Int: -1},
-		{Kind: api.Float, Int: 1},
-		{Kind: api.Float, Str: "a"},
-	}
-}
-
 // written tells by the chapter's words what Put must tell of one value.
 func written(v api.Value) []byte {
 	head := []byte{byte(v.Kind)}
@@ -149,7 +93,7 @@ func TestP3_1BytesOfEachKind(t *testing.T) {
 }
 
 func TestP3_1BytesOfRows(t *testing.T) {
-	all := rising()
+	all := sample.Rising()
 	var want []byte
 	for _, v := range all {
 		want = append(want, written(v)...)
@@ -163,7 +107,7 @@ func TestP3_1BytesOfRows(t *testing.T) {
 }
 
 func TestP3_1NoValues(t *testing.T) {
-	for _, v := range noValues() {
+	for _, v := range sample.NoValues() {
 		for _, l := range [][]api.Value{{v}, {v, sample.Int(1)}, {sample.Int(1), v}, {sample.Str("a"), v, sample.Bool(0)}, {v, v}} {
 			if b, e := code.Put(l); e != api.ErrCode || len(b) != 0 {
 				t.Errorf("Put(%v) tells % x, %d", l, b, e)
@@ -173,7 +117,7 @@ func TestP3_1NoValues(t *testing.T) {
 }
 
 func TestP3_2GetTellsWhatWasPut(t *testing.T) {
-	all := rising()
+	all := sample.Rising()
 	rows := [][]api.Value{nil, {}, all}
 	for i, v := range all {
 		rows = append(rows, []api.Value{v}, []api.Value{v, v}, all[i:], all[:i])
@@ -233,7 +177,7 @@ func TestP3_2LongestStrings(t *testing.T) {
 }
 
 func TestP3_2BytesCutOffAndLeftOver(t *testing.T) {
-	for _, v := range rising() {
+	for _, v := range sample.Rising() {
 		b := written(v)
 		for n := 1; n < len(b); n++ {
 			refuse(t, b[:n])
@@ -270,7 +214,7 @@ func TestP3_2AllShortBytes(t *testing.T) {
 // Whatever Get finds, Put tells those very bytes of it; whatever it refuses, Whole refuses.
 func TestP3_2OneWayToWrite(t *testing.T) {
 	chance := rand.New(rand.NewSource(3))
-	all := rising()
+	all := sample.Rising()
 	few := []byte{0, 1, 2, 3, 4, 5, 6, 'a', 255}
 	found, refused := 0, 0
 	for range 200000 {
@@ -325,7 +269,7 @@ func byRows(t *testing.T, rows [][]api.Value) {
 
 func TestP3_3ValuesRise(t *testing.T) {
 	var last []byte
-	for i, v := range rising() {
+	for i, v := range sample.Rising() {
 		b := put(t, []api.Value{v})
 		if i > 0 && bytes.Compare(last, b) >= 0 {
 			t.Errorf("% x stands not ahead of % x", last, b)
@@ -335,7 +279,7 @@ func TestP3_3ValuesRise(t *testing.T) {
 }
 
 func TestP3_3OrderOfRows(t *testing.T) {
-	all := rising()
+	all := sample.Rising()
 	byRows(t, [][]api.Value{nil, {}})
 	var ones, twos, threes [][]api.Value
 	for _, v := range all {
@@ -369,7 +313,7 @@ func TestP3_3OrderOfNumbers(t *testing.T) {
 }
 
 func TestArgumentsStayAsTheyAre(t *testing.T) {
-	row := slices.Grow(rising(), 4)
+	row := slices.Grow(sample.Rising(), 4)
 	spare := row[len(row):cap(row)]
 	for i := range spare {
 		spare[i] = sample.Int(77)

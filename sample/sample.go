@@ -4,6 +4,7 @@ package sample
 import (
 	"math"
 	"slices"
+	"strings"
 
 	"rialto/api"
 )
@@ -52,4 +53,62 @@ func Alike(a, b api.Value) bool {
 // RowsAlike holds two rows against each other value by value.
 func RowsAlike(a, b []api.Value) bool {
 	return slices.EqualFunc(a, b, Alike)
+}
+
+// risingStrings stand byte by byte, a shorter one ahead of one that begins like it.
+func risingStrings() []string {
+	return []string{
+		"", "\x00", "\x00\x00", "\x00\x00\x01", "\x00\x01", "\x00\xFF", "\x00\xFF\x00",
+		"\x01\x00", strings.Repeat("\x01", 60), "\x02",
+		"a", "a\x00", "a\x00\x00", "a\x00\x01", "a\x00b", "a\x00\xFF", "a\x01", "a\x01\x00", "aa", "ab", "a\xFE", "a\xFF", "a\xFF\x00", "a\xFF\xFF",
+		"b", strings.Repeat("x", 59), strings.Repeat("x", 60), "\u00E9", "\xFE", "\xFF", "\xFF\x00", "\xFF\x00\xFF", "\xFF\x01", "\xFF\xFF",
+	}
+}
+
+// Rising tells values of all kinds, the edges of each among them, as they stand.
+func Rising() []api.Value {
+	var l []api.Value
+	for _, n := range []int64{math.MinInt64, math.MinInt64 + 1, -1 << 32, -257, -256, -1, 0, 1, 255, 256, 1 << 32, math.MaxInt64 - 1, math.MaxInt64} {
+		l = append(l, Int(n))
+	}
+	l = append(l, Bool(0), Bool(1))
+	for _, s := range risingStrings() {
+		l = append(l, Str(s))
+	}
+	for _, s := range risingStrings() {
+		l = append(l, Bytes(s))
+	}
+	for _, f := range []float64{
+		FirstNaN(), MinusNaN(), math.Inf(-1), -math.MaxFloat64, -1, -math.SmallestNonzeroFloat64, MinusNought(),
+		0, math.SmallestNonzeroFloat64, 1, 1.5, math.MaxFloat64, math.Inf(1), SignalNaN(), QuietNaN(), LastNaN(),
+	} {
+		l = append(l, Float(f))
+	}
+	return l
+}
+
+// NoValues are what is none, by each of the reasons.
+func NoValues() []api.Value {
+	return []api.Value{
+		{},
+		{Kind: -1},
+		{Kind: api.Float + 1},
+		{Kind: 256 + api.Int},
+		{Kind: math.MinInt},
+		{Kind: api.Int, Str: "a"},
+		{Kind: api.Int, F: MinusNought()},
+		Bool(-1),
+		Bool(2),
+		Bool(257),
+		{Kind: api.Bool, Str: "a"},
+		{Kind: api.Bool, Int: 1, F: 1},
+		{Kind: api.Str, Int: 1},
+		{Kind: api.Str, F: QuietNaN()},
+		Str(strings.Repeat("x", 61)),
+		Bytes(strings.Repeat("\x00", 61)),
+		{Kind: api.Bytes, Int: -1},
+		{Kind: api.Bytes, F: MinusNought()},
+		{Kind: api.Float, Int: 1},
+		{Kind: api.Float, Str: "a"},
+	}
 }

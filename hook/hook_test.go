@@ -455,17 +455,15 @@ func roomy(vals []api.Value) []api.Value {
 	return l[:len(vals)]
 }
 
-// scribble writes into all of l, and into the room behind it.
-func scribble(l []api.Value) {
-	l = append(l, sample.Int(-99))
-	l = l[:cap(l)]
-	for i := range l {
-		l[i] = sample.Int(-99)
-	}
-}
-
 // whole tells l with the room behind it.
 func whole(l []api.Value) []api.Value { return l[:cap(l)] }
+
+// scribble writes into all of l, and into the room behind it; not by append, which would leave a full list for a new one.
+func scribble(l []api.Value) {
+	for i := range whole(l) {
+		whole(l)[i] = sample.Int(-99)
+	}
+}
 
 func TestP6_2WritingIntoCopiesChangesNothing(t *testing.T) {
 	for _, vals := range records() {
